@@ -1,0 +1,1 @@
+"""Standup: maps on a sheet drawn straight and stood up as solids."""
