@@ -30,21 +30,22 @@ def ties(orders):
     return found
 
 
-# Told is a dict that has each place come to from the start, the start too.
-def come_to(orders, start):
+# Told is a dict that has each place come to from the start, the start too,
+# without going through a place that is shut.
+def come_to(orders, start, shut):
     reached = {start: True}
     waiting = [start]
     while len(waiting) > 0:
         place = waiting.pop()
         for neighbour in orders[place]:
-            if neighbour not in reached:
+            if neighbour not in reached and neighbour not in shut:
                 reached[neighbour] = True
                 waiting.append(neighbour)
     return reached
 
 
 def hangs(orders):
-    return len(come_to(orders, 0)) == len(orders)
+    return len(come_to(orders, 0, [])) == len(orders)
 
 
 # Ahead of the first one stands the last one, which Python counts as -1.
@@ -71,6 +72,11 @@ def least_begun(ring):
     return min([ring[k:] + ring[:k] for k in range(len(ring)) if ring[k] == least])
 
 
+# The ties along a ring, each as (from, to), in the way in which the land lies at their left.
+def steps(ring):
+    return list(zip(ring, ring[1:] + ring[:1]))
+
+
 def lands(orders):
     gone = {}
     rings = []
@@ -79,9 +85,18 @@ def lands(orders):
             if (one, other) not in gone:
                 ring = ring_from(orders, one, other)
                 rings.append(least_begun(ring))
-                for k in range(len(ring)):
-                    gone[(ring[k - 1], ring[k])] = True
+                for step in steps(ring):
+                    gone[step] = True
     return sorted(rings)
+
+
+# Told is a dict that has, for each (from, to), the number of the land at the left.
+def left_lands(rings):
+    left = {}
+    for land, ring in enumerate(rings):
+        for step in steps(ring):
+            left[step] = land
+    return left
 
 
 def count(orders):

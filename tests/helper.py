@@ -3,6 +3,8 @@
 import copy
 import functools
 import itertools
+from fractions import Fraction
+from math import gcd
 
 # A triangle 0, 1, 2 that goes round to the left, and 3 within it.
 FOUR = [[1, 3, 2], [2, 3, 0], [0, 3, 1], [2, 0, 1]]
@@ -14,6 +16,14 @@ CUBE_LANDS = [[0, 1, 5, 4], [0, 3, 2, 1], [0, 4, 7, 3], [1, 2, 6, 5], [2, 3, 7, 
 
 # Seven places, each tied to each, on a ring-shaped tube: no sheet.
 TUBE = [[(place + step) % 7 for step in (1, 3, 2, 6, 4, 5)] for place in range(7)]
+
+ALONE = [[]]
+STAR = [[1, 2, 3], [0], [0], [0]]
+# Two triangles that have place 0 in common.
+BOW = [[1, 2, 3, 4], [2, 0], [0, 1], [4, 0], [0, 3]]
+# A square with a tie from place 1 to place 4, which lies within it and has no other neighbour.
+SPUR = [[1, 3], [2, 4, 0], [3, 1], [0, 2], [1]]
+EACH_TO_EACH = [[other for other in range(60) if other != place] for place in range(60)]
 
 
 def whole(number):
@@ -33,23 +43,56 @@ def told(case, call, *given):
         case.assertEqual(given, kept, "what was handed in was changed")
 
 
+def refused(case, error, call, *given):
+    """The refusal with which the call ends; fails where it is of another class, or what was handed in was changed."""
+    with case.assertRaises(error) as caught:
+        told(case, call, *given)
+    case.assertIs(type(caught.exception), error)
+    return caught.exception
+
+
+def lists_in(thing):
+    """All lists of a thing, itself too."""
+    found = [thing] if isinstance(thing, list) else []
+    if isinstance(thing, (list, tuple)):
+        for inner in thing:
+            found += lists_in(inner)
+    return found
+
+
 def spoiled(thing):
     """Changes a told list, and all lists within it, as the asker may."""
-    for inner in thing:
-        if isinstance(inner, list):
-            spoiled(inner)
-    thing.reverse()
-    thing.append("spoiled")
+    for inner in lists_in(thing):
+        inner.reverse()
+        inner.append("spoiled")
 
 
 def check_own(case, call, *given):
     """What is told is the asker's own: spoiling it changes nothing told later, nor what was handed in."""
     first = told(case, call, *given)
+    second = call(*given)
     kept = copy.deepcopy(first)
     kept_given = copy.deepcopy(given)
+    fresh = [id(thing) for thing in lists_in(first) + lists_in(second)]
+    case.assertEqual(len(set(fresh)), len(fresh), "a list stands at two places")
+    case.assertEqual(set(fresh) & {id(thing) for thing in lists_in(given)}, set(), "a list handed in is told")
     spoiled(first)
     case.assertEqual(given, kept_given)
+    case.assertEqual(second, kept)
     case.assertEqual(call(*given), kept)
+
+
+def check_points(case, points, many, size):
+    """A list of so many tuples, each of so many fractions in lowest terms."""
+    case.assertIs(type(points), list)
+    case.assertEqual(len(points), many)
+    for point in points:
+        case.assertIs(type(point), tuple)
+        case.assertEqual(len(point), size)
+        for number in point:
+            case.assertIs(type(number), tuple)
+            case.assertEqual([type(part) for part in number], [int, int])
+            case.assertTrue(number[1] >= 1 and gcd(*number) == 1)
 
 
 def numbers(seed, least, most):
@@ -90,6 +133,144 @@ def grid(wide, high):
     pairs = [(k, k + 1) for k, spot in enumerate(spots) if spot[0] + 1 < wide]
     pairs += [(k, k + wide) for k, spot in enumerate(spots) if spot[1] + 1 < high]
     return spots, pairs, drawn_map(spots, pairs)
+
+
+def least_begin(ring):
+    return min(list(ring[k:]) + list(ring[:k]) for k in range(len(ring)))
+
+
+def map_of_rings(rings):
+    """The map whose lands are these: round a corner, the next place of the ring stands just ahead of the last one."""
+    following = {}
+    for ring in rings:
+        for k, place in enumerate(ring):
+            following.setdefault(place, {})[ring[(k + 1) % len(ring)]] = ring[k - 1]
+    orders = []
+    for place in sorted(following):
+        order = [min(following[place])]
+        while following[place][order[-1]] != order[0]:
+            order.append(following[place][order[-1]])
+        orders.append(order)
+    return orders
+
+
+def wheel(spokes):
+    """Place 0 within a ring of the others."""
+    rim = [1 + k for k in range(spokes)]
+    return map_of_rings([[0, rim[k - 1], rim[k]] for k in range(spokes)] + [rim[::-1]])
+
+
+def prism(sides):
+    low = list(range(sides))
+    high = [place + sides for place in low]
+    walls = [[low[k - 1], low[k], high[k], high[k - 1]] for k in range(sides)]
+    return map_of_rings(walls + [low[::-1], high])
+
+
+def barrel(sides, rings):
+    """A place on top, so many rings under it, each turned by half a step, and a place at the bottom."""
+    def at(ring, k):
+        return 1 + ring * sides + k % sides
+
+    found = []
+    for k in range(sides):
+        found += [[0, at(0, k), at(0, k + 1)], [1 + rings * sides, at(rings - 1, k + 1), at(rings - 1, k)]]
+        for ring in range(rings - 1):
+            found += [[at(ring, k), at(ring + 1, k), at(ring, k + 1)],
+                      [at(ring, k + 1), at(ring + 1, k), at(ring + 1, k + 1)]]
+    return map_of_rings(found)
+
+
+def side(one, other, third):
+    """Above 0 where the third lies at the left of going from one to other."""
+    return (other[0] - one[0]) * (third[1] - one[1]) - (other[1] - one[1]) * (third[0] - one[0])
+
+
+def crosses(one, other):
+    """Whether two straight ties between spots in general position cross; ties with a spot in common don't."""
+    if set(one) & set(other):
+        return False
+    return (side(*one, other[0]) > 0) != (side(*one, other[1]) > 0) and \
+        (side(*other, one[0]) > 0) != (side(*other, one[1]) > 0)
+
+
+def scattered(seed, places):
+    """The spots, ties and map of a drawing: three far spots, others within, and ties as long as none crosses.
+
+    All lands have three corners, so no two places part it.
+    """
+    across, up = numbers(seed, -1000, 1000), numbers(seed + 1000, -1000, 1000)
+    spots = [(-9001, -5003), (9007, -5009), (11, 10007)]
+    while len(spots) < places:
+        spot = (next(across), next(up))
+        if all(side(one, other, spot) != 0 for one, other in itertools.combinations(spots, 2)):
+            spots.append(spot)
+    picks = numbers(seed + 2000, 0, 10 ** 9)
+    pairs = []
+    for pair in sorted(itertools.combinations(range(places), 2), key=lambda pair: next(picks)):
+        tie = (spots[pair[0]], spots[pair[1]])
+        if not any(crosses(tie, (spots[one], spots[other])) for one, other in pairs):
+            pairs.append(pair)
+    return spots, pairs, drawn_map(spots, pairs)
+
+
+def thinned(seed, places):
+    """A scattered map without as many of its ties as may go so that no two places part it."""
+    spots, pairs, orders = scattered(seed, places)
+    for pair in pairs[::-1]:
+        fewer = drawn_map(spots, [other for other in pairs if other != pair])
+        if slow_parting(fewer) is None:
+            pairs = [other for other in pairs if other != pair]
+            orders = fewer
+    return orders
+
+
+def reached(orders, start, without=()):
+    """The places come to from a place, without some."""
+    found = {start}
+    fresh = [start]
+    while fresh:
+        fresh = [other for place in fresh for other in orders[place]]
+        fresh = sorted(set(fresh) - found - set(without))
+        found |= set(fresh)
+    return found
+
+
+def slow_parting(orders):
+    """What point 14 tells, list by list."""
+    places = range(len(orders))
+    for size in range(3):
+        for picked in itertools.combinations(places, size):
+            left = [place for place in places if place not in picked]
+            if left and len(reached(orders, left[0], picked)) < len(left):
+                return list(picked)
+    return None
+
+
+def any_map(seed, places, often):
+    """Some map, mostly on no sheet: so many of a hundred ties that may be there are there, the orders as they come."""
+    picks = numbers(seed, 0, 10 ** 6)
+    pairs = [pair for pair in itertools.combinations(range(places), 2) if next(picks) % 100 < often]
+    orders = [[] for place in range(places)]
+    for one, other in pairs:
+        orders[one].append(other)
+        orders[other].append(one)
+    return [sorted(order, key=lambda neighbour: next(picks)) for order in orders]
+
+
+def shuffled(seed, places):
+    picks = numbers(seed, 0, 10 ** 9)
+    return sorted(range(places), key=lambda place: next(picks))
+
+
+def as_numbers(spot):
+    """A spot or point as a tuple of Python's own fractions."""
+    return tuple(Fraction(*number) for number in spot)
+
+
+def as_spot(numbers_given):
+    """A spot or point of the program's own fractions."""
+    return tuple((Fraction(number).numerator, Fraction(number).denominator) for number in numbers_given)
 
 
 def round_about(places):

@@ -23,6 +23,11 @@ isupper items join keys ljust lower lstrip partition pop remove replace reverse 
 setdefault split splitlines startswith strip update upper values zfill bit_length __init__""".split()
 WORDS = """type typing typing_extensions enum Enum IntEnum StrEnum Flag IntFlag Generic Protocol ABC ABCMeta namedtuple
 NamedTuple TypedDict TYPE_CHECKING abstractmethod""".split()
+WALKS = "zip enumerate reversed range items keys values".split()
+WALKERS = "list tuple dict sorted sum any all enumerate zip min max join".split()
+CHANGES = "append clear extend insert pop remove reverse setdefault update".split()
+KEYWORDS = {"sorted": ("key", "reverse"), "min": ("key", "default"), "max": ("key", "default"), "sum": ("start",),
+            "enumerate": ("start",), "zip": ("strict",)}
 UNUSED = """register mro elements open input version_info with_traceback add_note format format_map""".split()
 
 
@@ -45,6 +50,21 @@ def every(kind):
         for node in ast.walk(tree_of(name)):
             if isinstance(node, kind):
                 yield name, node
+
+
+def with_parents(kind):
+    """Each node of the kind, with its file's name and the node that it stands in."""
+    for name, node in every(ast.AST):
+        for child in ast.iter_child_nodes(node):
+            if isinstance(child, kind):
+                yield name, child, node
+
+
+def called(node):
+    """The name that a call calls, or the method's."""
+    if not isinstance(node, ast.Call):
+        return None
+    return node.func.attr if isinstance(node.func, ast.Attribute) else getattr(node.func, "id", None)
 
 
 def top_names(name):
@@ -162,6 +182,48 @@ class Forms(unittest.TestCase):
         for name, node in every(ast.ClassDef):
             self.assertLessEqual(len(node.bases), 1, name)
             self.assertTrue(all(isinstance(inner, (ast.FunctionDef, ast.Pass)) for inner in node.body), name)
+
+    def test_walks_are_walked_at_once(self):
+        for name, node, parent in with_parents(ast.Call):
+            if called(node) in WALKS:
+                if isinstance(parent, (ast.For, ast.comprehension)):
+                    self.assertIs(parent.iter, node, (name, node.lineno))
+                else:
+                    self.assertIn(called(parent), WALKERS, (name, node.lineno))
+                    self.assertIs(parent.args[0], node, (name, node.lineno))
+                    if called(parent) in ("min", "max"):
+                        self.assertEqual(len(parent.args), 1, (name, node.lineno))
+
+    def test_what_a_loop_walks_is_not_changed_in_it(self):
+        for name, node in every(ast.For):
+            walked = {ast.unparse(inner) for inner in ast.walk(node.iter)
+                      if isinstance(inner, (ast.Name, ast.Attribute, ast.Subscript))}
+            for inner in [part for line in node.body for part in ast.walk(line)]:
+                if isinstance(inner, ast.Call) and called(inner) in CHANGES and isinstance(inner.func, ast.Attribute):
+                    self.assertNotIn(ast.unparse(inner.func.value), walked, (name, inner.lineno))
+                if isinstance(inner, ast.Subscript) and isinstance(inner.ctx, ast.Store):
+                    self.assertNotIn(ast.unparse(inner.value), walked, (name, inner.lineno))
+
+    def test_sets_are_asked_on_the_spot(self):
+        for name, node, parent in with_parents(ast.Call):
+            if called(node) in ("set", "frozenset"):
+                self.assertTrue(isinstance(parent, (ast.Compare, ast.BinOp)) or called(parent) in ("len", "sorted"),
+                                (name, node.lineno))
+        for name, node, parent in with_parents(ast.Set):
+            self.assertIsInstance(parent, ast.Compare, (name, node.lineno))
+
+    def test_keywords_are_those_of_the_list(self):
+        for name, node in every(ast.Call):
+            if called(node) in KNOWN + METHODS:
+                allowed = KEYWORDS.get(called(node), ())
+                self.assertTrue(all(given.arg in allowed for given in node.keywords), (name, node.lineno))
+
+    def test_errors_are_made_on_the_spot(self):
+        for name, node in every(ast.Raise):
+            self.assertIsInstance(node.exc, ast.Call, (name, node.lineno))
+        for name, node in every(ast.ExceptHandler):
+            self.assertIsNotNone(node.type, (name, node.lineno))
+            self.assertNotIn(ast.unparse(node.type), ("Exception", "TypeError"), (name, node.lineno))
 
     def test_exponents_are_written_and_small(self):
         for name, node in every(ast.BinOp):

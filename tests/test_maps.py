@@ -5,16 +5,9 @@ import unittest
 
 from standup.errors import NoMap
 from standup.maps import count, hangs, lands, looked, ties
-from tests.helper import (CUBE, CUBE_LANDS, FOUR, FOUR_LANDS, TUBE, beside, check_own, drawn_map, grid, path,
-                          round_about, small_maps, told)
+from tests.helper import (ALONE, BOW, CUBE, CUBE_LANDS, EACH_TO_EACH, FOUR, FOUR_LANDS, SPUR, STAR, TUBE, beside,
+                          check_own, drawn_map, grid, path, round_about, small_maps, told)
 
-ALONE = [[]]
-STAR = [[1, 2, 3], [0], [0], [0]]
-# Two triangles that have place 0 in common.
-BOW = [[1, 2, 3, 4], [2, 0], [0, 1], [4, 0], [0, 3]]
-# A square with a tie from place 1 to place 4, which lies within it and has no other neighbour.
-SPUR = [[1, 3], [2, 4, 0], [3, 1], [0, 2], [1]]
-EACH_TO_EACH = [[other for other in range(60) if other != place] for place in range(60)]
 MAPS = [ALONE, [[], []], path(2), path(5), STAR, BOW, SPUR, round_about(3), FOUR, CUBE, TUBE, beside(FOUR, ALONE, BOW),
         beside(ALONE, path(3), TUBE), grid(10, 6)[2], EACH_TO_EACH]
 
