@@ -4,7 +4,7 @@ import copy
 import functools
 import itertools
 from fractions import Fraction
-from math import gcd
+from math import gcd, lcm
 
 # A triangle 0, 1, 2 that goes round to the left, and 3 within it.
 FOUR = [[1, 3, 2], [2, 3, 0], [0, 3, 1], [2, 0, 1]]
@@ -23,6 +23,11 @@ STAR = [[1, 2, 3], [0], [0], [0]]
 BOW = [[1, 2, 3, 4], [2, 0], [0, 1], [4, 0], [0, 3]]
 # A square with a tie from place 1 to place 4, which lies within it and has no other neighbour.
 SPUR = [[1, 3], [2, 4, 0], [3, 1], [0, 2], [1]]
+# With the values that their refusals keep: no maps; maps on no sheet; maps on a sheet that are not tight.
+NO_MAPS = [([[0]], 0), ([[1], []], 0), ([[1], [0, 1]], 1), (CUBE + [[8]], 8)]
+NO_SHEETS = [(TUBE, 0), (FOUR + [[]], None), (TUBE + [[]], None), ([[], []], None)]
+PARTED = [(ALONE, [0]), ([[1], [0]], [0, 1]), ([[1, 2], [2, 0], [0, 1]], [0, 1, 2]), (STAR, [0]), (BOW, [0]),
+          (SPUR, [1]), ([[1], [0, 2], [1]], [1]), ([[3, 1], [0, 2], [1, 3], [2, 0]], [0, 2])]
 EACH_TO_EACH = [[other for other in range(60) if other != place] for place in range(60)]
 
 
@@ -186,6 +191,58 @@ def side(one, other, third):
     return (other[0] - one[0]) * (third[1] - one[1]) - (other[1] - one[1]) * (third[0] - one[0])
 
 
+def above(three, point):
+    """Above 0 where the point lies where the three are seen to go round to the left from, 0 where on their plane."""
+    first, second, third = [[point[k] - corner[k] for k in range(3)] for corner in three]
+    across = second[1] * third[2] - second[2] * third[1]
+    up = second[2] * third[0] - second[0] * third[2]
+    high = second[0] * third[1] - second[1] * third[0]
+    return first[0] * across + first[1] * up + first[2] * high
+
+
+def off_plane(three):
+    """A point from which the three are seen to go round to the left."""
+    first = three[0]
+    one, other = [[corner[k] - first[k] for k in range(3)] for corner in three[1:]]
+    return (first[0] + one[1] * other[2] - one[2] * other[1], first[1] + one[2] * other[0] - one[0] * other[2],
+            first[2] + one[0] * other[1] - one[1] * other[0])
+
+
+def ring_steps(ring):
+    return [(ring[k - 1], place) for k, place in enumerate(ring)]
+
+
+def check_land(case, points, ring):
+    """The ring is a whole land of the solid of the points, seen from outside."""
+    three = [points[number] for number in ring[:3]]
+    outside = off_plane(three)
+    heights = [above(three, point) for point in points]
+    case.assertEqual(max(heights), 0)
+    case.assertLess(min(heights), 0)
+    for one, other in ring_steps(ring):
+        for number, point in enumerate(points):
+            if heights[number] == 0:
+                # The plane through the edge and a point outside has the land at one side, at the left of the edge.
+                beyond = above((points[one], points[other], outside), point)
+                case.assertLessEqual(beyond, 0)
+                if number in ring and number not in (one, other):
+                    case.assertLess(beyond, 0)
+            else:
+                case.assertNotIn(number, ring)
+
+
+def check_lands(case, points, rings):
+    """The rings are all lands of the solid of the points: each a land, and beyond each edge of one lies another."""
+    gone = []
+    for ring in rings:
+        check_land(case, points, ring)
+        case.assertEqual([points.index(points[number]) for number in ring], ring)
+        gone += ring_steps(ring)
+    case.assertEqual(len(set(gone)), len(gone))
+    case.assertEqual(sorted(gone), sorted((there, here) for here, there in gone))
+    case.assertEqual(rings, sorted(least_begin(ring) for ring in rings))
+
+
 def crosses(one, other):
     """Whether two straight ties between spots in general position cross; ties with a spot in common don't."""
     if set(one) & set(other):
@@ -268,9 +325,19 @@ def as_numbers(spot):
     return tuple(Fraction(*number) for number in spot)
 
 
+def scaled(points):
+    """Spots or points of the program's own fractions as tuples of whole numbers, all made larger by one number."""
+    size = lcm(*[bottom for point in points for top, bottom in point])
+    return [tuple(top * (size // bottom) for top, bottom in point) for point in points]
+
+
 def as_spot(numbers_given):
     """A spot or point of the program's own fractions."""
     return tuple((Fraction(number).numerator, Fraction(number).denominator) for number in numbers_given)
+
+
+def as_spots(several):
+    return [as_spot(spot) for spot in several]
 
 
 def round_about(places):

@@ -8,8 +8,8 @@ from standup.drawing import drawn, land_at, right
 from standup.errors import NoFrame, NoLand, NoMap, NoSheet, Parted
 from standup.maps import count, lands
 from tests.helper import (ALONE, BOW, CUBE, EACH_TO_EACH, FOUR, FOUR_LANDS, SPUR, STAR, TUBE, as_numbers, as_spot,
-                          barrel, beside, check_own, check_points, grid, numbers, path, prism, refused, round_about,
-                          scattered, side, thinned, told, wheel)
+                          as_spots, barrel, beside, check_own, check_points, grid, numbers, path, prism, refused,
+                          round_about, scattered, side, thinned, told, wheel)
 
 OCTAHEDRON = barrel(4, 1)
 TIGHT = [FOUR, CUBE, OCTAHEDRON, barrel(5, 2), barrel(3, 2), wheel(4), wheel(7), prism(3), prism(5), prism(6),
@@ -17,10 +17,6 @@ TIGHT = [FOUR, CUBE, OCTAHEDRON, barrel(5, 2), barrel(3, 2), wheel(4), wheel(7),
 # A frame of five corners that go round twice, with a turn to the right at each.
 STAR_SHAPE = [(0, 5), (3, -4), (-5, 2), (5, 2), (-3, -4)]
 FIVE = [(0, 5), (5, 2), (3, -4), (-3, -4), (-5, 2)]
-
-
-def spots_of(pairs):
-    return [as_spot(pair) for pair in pairs]
 
 
 def goes_round(spots, way):
@@ -88,11 +84,11 @@ class Drawings(unittest.TestCase):
 class Drawn(Drawings):
     def test_by_hand(self):
         self.assertEqual(drawn(FOUR, 1), [((2, 1), (4, 1)), ((0, 1), (0, 1)), ((1, 1), (1, 1)), ((1, 1), (5, 3))])
-        frame = spots_of([(0, 0), (0, 4), (4, 0)])
+        frame = as_spots([(0, 0), (0, 4), (4, 0)])
         self.assertEqual(drawn(FOUR, 1, frame), [((0, 1), (0, 1)), ((4, 1), (0, 1)), ((0, 1), (4, 1)),
                                                  ((4, 3), (4, 3))])
-        square = spots_of([(0, 0), (0, 3), (3, 3), (3, 0)])
-        self.assertEqual(drawn(CUBE, 1, square), spots_of([(0, 0), (3, 0), (3, 3), (0, 3), (1, 1), (2, 1), (2, 2),
+        square = as_spots([(0, 0), (0, 3), (3, 3), (3, 0)])
+        self.assertEqual(drawn(CUBE, 1, square), as_spots([(0, 0), (3, 0), (3, 3), (0, 3), (1, 1), (2, 1), (2, 2),
                                                            (1, 2)]))
 
     def test_the_frame_where_none_is_handed_in(self):
@@ -113,7 +109,7 @@ class Drawn(Drawings):
                 self.check_drawing(orders, land, told(self, drawn, orders, land, frame), frame)
 
     def test_the_frame_begun_elsewhere_is_another_drawing(self):
-        frame = spots_of([(0, 0), (0, 4), (4, 0)])
+        frame = as_spots([(0, 0), (0, 4), (4, 0)])
         for step in range(3):
             begun = frame[step:] + frame[:step]
             spots = drawn(FOUR, 1, begun)
@@ -137,11 +133,11 @@ class Drawn(Drawings):
 
     def test_numbers_of_many_figures(self):
         great = 10 ** 400 + 9
-        frame = spots_of([(-great, Fraction(1, great)), (Fraction(3, great + 2), Fraction(great, 7)),
+        frame = as_spots([(-great, Fraction(1, great)), (Fraction(3, great + 2), Fraction(great, 7)),
                           (Fraction(great, 11), Fraction(-great * great, great - 10))])
         for orders in (FOUR, OCTAHEDRON, scattered(1, 9)[2], scattered(5, 40)[2]):
             self.check_drawing(orders, 2, told(self, drawn, orders, 2, frame), frame)
-        tiny = spots_of([(Fraction(2, great), Fraction(4, great)), (Fraction(1, great), Fraction(1, great)), (0, 0)])
+        tiny = as_spots([(Fraction(2, great), Fraction(4, great)), (Fraction(1, great), Fraction(1, great)), (0, 0)])
         small = [as_spot(Fraction(number) / great for number in as_numbers(spot)) for spot in drawn(FOUR, 1)]
         self.assertEqual(drawn(FOUR, 1, tiny), small)
 
@@ -190,7 +186,7 @@ class Refused(unittest.TestCase):
                 refused(self, NoLand, drawn, orders, land, some_frame(3))
 
     def check_no_frame(self, orders, land, frame):
-        refused(self, NoFrame, drawn, orders, land, spots_of(frame))
+        refused(self, NoFrame, drawn, orders, land, as_spots(frame))
 
     def test_too_few_or_too_many_corners(self):
         for corners in (0, 1, 2, 4, 5):
@@ -210,7 +206,7 @@ class Refused(unittest.TestCase):
         for land in five:
             self.check_no_frame(prism(5), land, STAR_SHAPE)
             self.check_no_frame(prism(5), land, STAR_SHAPE[::-1])
-            self.assertEqual(len(drawn(prism(5), land, spots_of(FIVE))), 10)
+            self.assertEqual(len(drawn(prism(5), land, as_spots(FIVE))), 10)
         for land in six:
             self.check_no_frame(prism(6), land, [(0, 0), (0, 4), (4, 0)] * 2)
             self.check_no_frame(prism(6), land, [(0, 0), (0, 4), (4, 0), (1, 1), (1, 3), (5, 1)])
@@ -242,8 +238,8 @@ class Refused(unittest.TestCase):
             for land, ring in list(enumerate(lands(orders)))[:2]:
                 for picked in itertools.product(spots, repeat=len(ring)):
                     if goes_round(list(picked), -1):
-                        found = drawn(orders, land, spots_of(picked))
-                        self.assertEqual([found[place] for place in ring], spots_of(picked))
+                        found = drawn(orders, land, as_spots(picked))
+                        self.assertEqual([found[place] for place in ring], as_spots(picked))
                     else:
                         self.check_no_frame(orders, land, picked)
 
@@ -262,7 +258,7 @@ def five_each():
 
 class Right(unittest.TestCase):
     def check_right(self, orders, land, spots, expected):
-        self.assertIs(told(self, right, orders, land, spots_of(spots)), expected)
+        self.assertIs(told(self, right, orders, land, as_spots(spots)), expected)
         self.assertIs(slow_right(orders, land, [as_numbers(as_spot(spot)) for spot in spots]), expected)
 
     def test_three_places(self):
@@ -295,7 +291,7 @@ class Right(unittest.TestCase):
         for picked in itertools.product(grid(3, 3)[0], repeat=4):
             for land in (0, 1):
                 expected = slow_right(round_about(4), land, list(picked))
-                self.assertIs(right(round_about(4), land, spots_of(picked)), expected)
+                self.assertIs(right(round_about(4), land, as_spots(picked)), expected)
 
     def test_a_place_within(self):
         outer = [(0, 0), (4, 0), (0, 4)]
@@ -386,7 +382,7 @@ class LandAt(unittest.TestCase):
         return expected
 
     def test_by_hand(self):
-        spots = spots_of([(0, 0), (6, 0), (0, 6), (2, 2)])
+        spots = as_spots([(0, 0), (6, 0), (0, 6), (2, 2)])
         for spot, expected in (((2, 1), 0), ((1, 2), 2), ((3, 2), 3), ((1, 1), None), ((2, 2), None), ((0, 0), None),
                                ((3, 0), None), ((3, 3), None), ((4, 4), None), ((-1, 2), None), ((2, -1), None)):
             self.assertEqual(told(self, land_at, FOUR, 1, spots, as_spot(spot)), expected)
@@ -416,7 +412,7 @@ class LandAt(unittest.TestCase):
             spots, pairs, orders = scattered(seed, 12)
             outer = lands(orders).index([0, 2, 1])
             picks = numbers(seed, -1500, 1500)
-            found = [self.check_at(orders, outer, spots_of(spots), as_spot((next(picks), next(picks))))
+            found = [self.check_at(orders, outer, as_spots(spots), as_spot((next(picks), next(picks))))
                      for again in range(60)]
             self.assertGreater(len(set(found)), 5)
 
@@ -436,7 +432,7 @@ class LandAt(unittest.TestCase):
             self.check_at(orders, longest, spots, as_spot((Fraction(2 * k + 1, 2), k * k + k + 1)))
 
     def test_numbers_of_many_figures(self):
-        spots = spots_of([(0, 0), (6, 0), (0, 6), (2, 2)])
+        spots = as_spots([(0, 0), (6, 0), (0, 6), (2, 2)])
         great = 10 ** 500
         self.assertEqual(land_at(FOUR, 1, spots, as_spot((2, 2 - Fraction(1, great)))), 0)
         self.assertEqual(land_at(FOUR, 1, spots, as_spot((2 - Fraction(1, great), 2))), 2)

@@ -232,6 +232,60 @@ class Forms(unittest.TestCase):
                 self.assertIn(node.right.value, range(65), name)
 
 
+    def test_texts_are_plain(self):
+        for name, node in every(ast.FormattedValue):
+            self.assertIsInstance(node.value, ast.Name, (name, node.lineno))
+            self.assertIsNone(node.format_spec, (name, node.lineno))
+        for name, node in every(ast.Constant):
+            if isinstance(node.value, str):
+                self.assertNotIn("%", node.value, (name, node.lineno))
+        for name in files():
+            self.assertEqual(re.findall(r"\\[^nt\\'\"]", text_of(name)), [], name)
+
+    def test_what_is_kept_at_the_top_is_plain(self):
+        for name in files():
+            for node in tree_of(name).body:
+                if isinstance(node, ast.Assign):
+                    self.assertIsInstance(node.value, (ast.Constant, ast.Tuple, ast.List, ast.Dict), name)
+                    for inner in ast.walk(node.value):
+                        self.assertTrue(inner is node.value or not isinstance(inner, (ast.List, ast.Dict)), name)
+
+
+class Classes(unittest.TestCase):
+    def methods(self):
+        return [(name, node) for name, outer in every(ast.ClassDef) for node in outer.body
+                if isinstance(node, ast.FunctionDef)]
+
+    def test_stand_at_the_top(self):
+        for name, node, parent in with_parents(ast.ClassDef):
+            self.assertIsInstance(parent, ast.Module, (name, node.name))
+
+    def test_no_method_stands_twice(self):
+        for name, outer in every(ast.ClassDef):
+            found = [node.name for node in outer.body if isinstance(node, ast.FunctionDef)]
+            self.assertEqual(len(found), len(set(found)), (name, outer.name))
+
+    def test_no_name_is_a_method_and_a_value(self):
+        named = {node.name for name, node in self.methods()}
+        values = {node.attr for name, node in every(ast.Attribute) if isinstance(node.ctx, ast.Store)}
+        self.assertEqual(named & values, set())
+        python = {word for kind in (str, int, list, dict, set, bytes) for word in dir(kind)}
+        self.assertEqual(named & python - {"__init__"}, set())
+        self.assertEqual(values & python - set("count index title find get join lower upper split strip copy".split()),
+                         set())
+
+    def test_values_are_given_through_self_alone(self):
+        for name, node in every(ast.Attribute):
+            if isinstance(node.ctx, ast.Store):
+                self.assertEqual(ast.unparse(node.value), "self", (name, node.lineno))
+
+    def test_init_gives_nothing_back(self):
+        for name, node in self.methods():
+            if node.name == "__init__":
+                self.assertFalse(any(isinstance(inner, ast.Return) for inner in ast.walk(node)), name)
+            self.assertEqual(node.args.args[0].arg, "self", (name, node.name))
+
+
 class Names(unittest.TestCase):
     def test_names_are_plain_and_allowed(self):
         for name, node in every((ast.Name, ast.Attribute, ast.arg, ast.FunctionDef, ast.ClassDef)):

@@ -6,8 +6,8 @@ from standup.drawing import drawn
 from standup.errors import NoLand, NoMap, NoSheet, NoThree, Parted
 from standup.lifting import lifted
 from standup.maps import lands
-from tests.helper import (ALONE, BOW, CUBE, FOUR, TUBE, as_numbers, barrel, beside, check_own, check_points, grid, path,
-                          prism, refused, round_about, scattered, thinned, told, wheel)
+from tests.helper import (CUBE, FOUR, NO_MAPS, NO_SHEETS, PARTED, above, as_numbers, barrel, beside, check_own,
+                          check_points, grid, prism, refused, scattered, side, thinned, told, wheel)
 
 OCTAHEDRON = barrel(4, 1)
 LIFTED = [FOUR, OCTAHEDRON, barrel(5, 2), barrel(3, 2), wheel(4), wheel(7), prism(3), scattered(1, 9)[2],
@@ -17,14 +17,7 @@ BIG = [scattered(3, 60)[2], wheel(59), barrel(29, 2), barrel(5, 11), barrel(3, 1
 
 def over_plane(three, point):
     """Above 0 where the point lies over the plane of three, below 0 under it, 0 on it."""
-    first, second, third = [[point[k] - corner[k] for k in range(3)] for corner in three]
-    across = second[1] * third[2] - second[2] * third[1]
-    up = second[2] * third[0] - second[0] * third[2]
-    high = second[0] * third[1] - second[1] * third[0]
-    height = first[0] * across + first[1] * up + first[2] * high
-    turned = (three[1][0] - three[0][0]) * (three[2][1] - three[0][1]) - \
-        (three[1][1] - three[0][1]) * (three[2][0] - three[0][0])
-    return height * turned
+    return above(three, point) * side(*three)
 
 
 class Lifted(unittest.TestCase):
@@ -72,18 +65,17 @@ class Lifted(unittest.TestCase):
 
 class Refused(unittest.TestCase):
     def test_no_map(self):
-        for orders, place in (([[0]], 0), ([[1], []], 0), ([[1], [0, 1]], 1), (CUBE + [[8]], 8)):
+        for orders, place in NO_MAPS:
             for land in (0, -1, 99):
                 self.assertEqual(refused(self, NoMap, lifted, orders, land).place, place)
 
     def test_no_sheet(self):
-        for orders, number in ((TUBE, 0), (beside(FOUR, FOUR), None), (beside(TUBE, ALONE), None), ([[], []], None)):
+        for orders, number in NO_SHEETS + [(beside(FOUR, FOUR), None)]:
             for land in (0, -1, 99):
                 self.assertEqual(refused(self, NoSheet, lifted, orders, land).count, number)
 
     def test_parted(self):
-        for orders, places in ((path(3), [1]), (BOW, [0]), (round_about(4), [0, 2]), (grid(4, 3)[2], [1, 4]),
-                               (ALONE, [0]), (path(2), [0, 1]), (round_about(3), [0, 1, 2])):
+        for orders, places in PARTED + [(grid(4, 3)[2], [1, 4])]:
             for land in (0, -1, 99):
                 self.assertEqual(refused(self, Parted, lifted, orders, land).places, places)
 
